@@ -1,0 +1,1 @@
+"""Evenrounds: tables laid out in seatings."""
