@@ -3,60 +3,7 @@ import unittest
 
 from evenrounds.errors import BadSeating, BadTable
 from evenrounds.tables import laid, odd_line, sums
-
-TOP = 10 ** 6
-
-
-def filled(many, number):
-    return [[number] * many for _ in range(many)]
-
-
-def mixed(many):
-    return [[(7 * row + 3 * column * column) % 11 for column in range(many)] for row in range(many)]
-
-
-def rotated(many, step):
-    return [(row + step) % many for row in range(many)]
-
-
-def level(many):
-    # Each rotation adds the same to every row and every column.
-    return [[(column - row) % many for column in range(many)] for row in range(many)]
-
-
-def no_tables():
-    yield "no rows", []
-    for many in (9, 10, 20):
-        yield f"{many} rows", filled(many, 1)
-    yield "nine rows of one", [[1] for _ in range(9)]
-    yield "one row, empty", [[]]
-    yield "one row of two", [[1, 1]]
-    yield "two rows of three", [[1, 1, 1], [1, 1, 1]]
-    yield "three rows of two", [[1, 1], [1, 1], [1, 1]]
-    for many in range(2, 9):
-        for row in range(many):
-            longer = filled(many, 1)
-            longer[row].append(1)
-            yield f"{many} rows, row {row} longer", longer
-            shorter = filled(many, 1)
-            shorter[row].pop()
-            yield f"{many} rows, row {row} shorter", shorter
-            empty = filled(many, 1)
-            empty[row] = []
-            yield f"{many} rows, row {row} empty", empty
-    for many in range(1, 9):
-        for row in range(many):
-            for column in range(many):
-                for number in (-1, TOP + 1):
-                    bad = filled(many, 1)
-                    bad[row][column] = number
-                    yield f"{many} rows, {number} at {row}, {column}", bad
-    for label, number in (("-2", -2), ("-10 ** 9", -10 ** 9), ("10 ** 6 + 2", TOP + 2), ("10 ** 12", 10 ** 12),
-                          ("10 ** 5000", 10 ** 5000), ("-10 ** 5000", -10 ** 5000)):
-        yield f"{label} alone", [[number]]
-        yield f"{label} in the last row", [[1, 1], [1, number]]
-    yield "bad numbers that even out", [[-1, 2], [2, -1]]
-    yield "level but for a bound", filled(3, TOP + 1)
+from samples import TOP, filled, level, mixed, no_tables, rotated
 
 
 class NoTable(unittest.TestCase):
